@@ -1,0 +1,1 @@
+"""Fallenbits: what cells whose bits only fall can promise."""
