@@ -151,7 +151,7 @@ class Pattern:
         return Pattern(with_erased(self._text, block))
 
     def __str__(self):
-        return self._text
+        return str(self._text)
 
     def __len__(self):
         return len(self._bits)

@@ -8,6 +8,27 @@ PACKAGE = pathlib.Path(__file__).resolve().parent.parent / "fallenbits"
 LIBRARY = ("heapq", "math", "itertools", "collections", "__future__")
 
 
+def gives_text(node):
+    """Tell whether an expression is one that __str__ and __repr__ may return (L28)."""
+    if isinstance(node, ast.Constant):
+        return isinstance(node.value, str)
+    if isinstance(node, ast.Call) and isinstance(node.func, ast.Name):
+        return node.func.id in ("str", "repr")
+    if isinstance(node, ast.Call) and isinstance(node.func, ast.Attribute):
+        return node.func.attr == "join" and isinstance(node.func.value, ast.Constant)
+    return isinstance(node, ast.JoinedStr)
+
+
+def gives_length(node):
+    """Tell whether an expression is one that __len__ may return (L28)."""
+    if isinstance(node, ast.Constant):
+        return isinstance(node.value, int)
+    return isinstance(node, ast.Call) and isinstance(node.func, ast.Name) and node.func.id == "len"
+
+
+RETURNS = {"__str__": gives_text, "__repr__": gives_text, "__len__": gives_length}
+
+
 def sources():
     """Return the paths and texts of all files of the package."""
     return [(path, path.read_text(encoding="utf-8")) for path in sorted(PACKAGE.rglob("*.py"))]
@@ -44,6 +65,15 @@ class LanguageTest(unittest.TestCase):
                     self.assertTrue(node.level == 0 and first in ("fallenbits", *LIBRARY), (path, node.lineno))
                     for name in node.names:
                         self.assertNotEqual(name.name, "*", (path, node.lineno))
+
+    def test_what_some_methods_return(self):
+        for path, text in sources():
+            for node in ast.walk(ast.parse(text)):
+                if isinstance(node, ast.FunctionDef) and node.name in RETURNS:
+                    self.assertIsInstance(node.body[-1], ast.Return, (path, node.lineno))
+                    for inner in ast.walk(node):
+                        if isinstance(inner, ast.Return):
+                            self.assertTrue(RETURNS[node.name](inner.value), (path, inner.lineno))
 
     def test_no_floats_and_no_division(self):
         for path, text in sources():
