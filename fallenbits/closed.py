@@ -1,7 +1,7 @@
 """Lookers: whether a thing, any value, shows what the judge may tell."""
 
 from fallenbits.patterns import is_whole
-from fallenbits.plays import DONE, Play, is_stand
+from fallenbits.plays import DONE, Play
 from fallenbits.writes import is_pair
 
 FAULTS = ("nothing", "third", "strand")
@@ -92,9 +92,9 @@ def shows(store, driver, start, changes, kind, events):
     if not isinstance(events, list):
         return False
     stands = stands_along(Play(store, driver), ("rest", start, changes), events)
-    # Nothing can come behind a fault, so only the last one can be a fault.
     if stands is None:
         return False
+    # Nothing can come behind a fault, so only the last stand can be one, and no stand ahead of it equals it then.
     if kind == "ring":
-        return is_stand(stands[-1]) and ends_in_ring(stands, events)
+        return ends_in_ring(stands, events)
     return kind in FAULTS and stands[-1][0] == kind

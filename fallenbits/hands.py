@@ -1,7 +1,6 @@
 """Hands: they do changes on a device by the rows of a driver."""
 
-from fallenbits.errors import NoState, Stranded, Unlike
-from fallenbits.patterns import sizes_of
+from fallenbits.errors import NoState, Stranded
 
 
 class Hand:
@@ -14,8 +13,7 @@ class Hand:
     def wake(self, device):
         """Write by quiet rows until none applies; return how many writes have ended."""
         x = device.pattern
-        if sizes_of(x) != self._store.sizes:
-            raise Unlike("the device has other sizes than the store")
+        # The store raises Unlike if the device has other sizes.
         old = self._store.read(x)
         if old is None:
             raise Stranded(x)

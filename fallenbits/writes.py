@@ -7,9 +7,14 @@ from fallenbits.patterns import bits_of, is_number, need_pattern, with_erased, w
 MOST_STANDING = 10
 
 
+def is_tuple_of(thing, many):
+    """Tell whether thing is a tuple of so many items."""
+    return isinstance(thing, tuple) and len(thing) == many
+
+
 def is_pair(thing):
     """Tell whether thing is a tuple of two."""
-    return isinstance(thing, tuple) and len(thing) == 2
+    return is_tuple_of(thing, 2)
 
 
 def are_bits(thing, many):
@@ -43,6 +48,11 @@ def is_write(x, thing):
     """Tell whether a thing, whatever it is, is a write from the pattern x."""
     need_pattern(x)
     return fits(x, thing)
+
+
+def may_write(x, thing, erases):
+    """Tell whether thing is a write from the pattern x, where blocks can be erased or not."""
+    return is_write(x, thing) and (erases or thing[0] == "fall")
 
 
 def end(x, write):

@@ -197,6 +197,25 @@ class FlawTest(JudgeCase):
         ring = [("11*", "b", ("fall", (1,))), ("10*", "b", ("erase", 0))]
         self.flaw("ring", 3, far, Driver(far, ring), "111")
 
+    def test_a_ring_although_a_fault_comes_a_little_later(self):
+        # A cut at 011.1 or 101.1 leads to a quiet write and, behind it, to an ask for which no row is.
+        store = Store([3, 1], [("***.*", "a")], [("a", "b")])
+        rows = [("111.1", "", ("fall", (0, 1))), ("001.1", "", ("erase", 0)), ("***.1", "", ("fall", (3,)))]
+        for changes in (None, 1, 7):
+            self.assertEqual(least_flaw(store, Driver(store, rows), "111.1", changes), (2, {"ring"}))
+            self.assertEqual(self.flaw("ring", 2, store, Driver(store, rows), "111.1", changes), [("done",)] * 2)
+            self.assertEqual(self.flaw("strand", 2, store, Driver(store, rows), "011.1", changes), [("done",), ("ask", "b")])
+
+    def test_the_ring_of_the_shortest_list_is_not_the_nearest_one(self):
+        # From 1111.1 four writes lead back; a cut at 0111.1 leads to a ring of two writes.
+        store = Store([4, 1], [("****.*", "a")], [])
+        rows = [("1111.1", "", ("fall", (0, 1))), ("0011.1", "", ("fall", (2,))), ("0001.1", "", ("fall", (3,))),
+                ("0000.1", "", ("erase", 0)), ("0111.1", "", ("fall", (4,))), ("0111.0", "", ("erase", 1))]
+        for changes in (None, 0, 7):
+            self.assertEqual(self.flaw("ring", 3, store, Driver(store, rows), "1111.1", changes),
+                             [("cut", "0111.1"), ("done",), ("done",)])
+        self.flaw("ring", 4, store, Driver(store, rows[:5]), "1111.1", 0)
+
     def test_a_fault_that_is_shorter_than_every_ring(self):
         rows = [("11", "b", ("fall", (0,))), ("01", "b", ("erase", 0)), ("00", "", ("erase", 0))]
         store = Store([2], [("11", "a"), ("01", "a"), ("00", "b")], [("a", "b"), ("a", "c")])
