@@ -1,6 +1,7 @@
 """Tests of the form of the package: what of the language rules can be told from the files alone."""
 
 import ast
+import builtins
 import pathlib
 import unittest
 
@@ -27,6 +28,26 @@ def gives_length(node):
 
 
 RETURNS = {"__str__": gives_text, "__repr__": gives_text, "__len__": gives_length}
+
+# The builtins that L8 allows, without its error classes.
+BUILTINS = (
+    "len range enumerate zip min max sum abs sorted reversed int str bool bytes list tuple dict set frozenset isinstance "
+    "ord repr any all divmod pow iter next map getattr hasattr setattr super property staticmethod classmethod").split()
+TAKE_LISTS = ("any", "all", "min", "max", "sum", "sorted")
+
+
+def names_bound(tree):
+    """Return the names of all parameters and variables of a file, wherever they are bound."""
+    found = {node.arg for node in ast.walk(tree) if isinstance(node, ast.arg)}
+    return found | {node.id for node in ast.walk(tree) if isinstance(node, ast.Name) and isinstance(node.ctx, ast.Store)}
+
+
+def names_imported(tree):
+    return {name.name for node in ast.walk(tree) if isinstance(node, ast.ImportFrom) for name in node.names}
+
+
+def names_read(tree):
+    return {node.id for node in ast.walk(tree) if isinstance(node, ast.Name) and isinstance(node.ctx, ast.Load)}
 
 
 def sources():
@@ -74,6 +95,46 @@ class LanguageTest(unittest.TestCase):
                     for inner in ast.walk(node):
                         if isinstance(inner, ast.Return):
                             self.assertTrue(RETURNS[node.name](inner.value), (path, inner.lineno))
+
+    def test_each_import_is_used_and_means_one_thing(self):
+        for path, text in sources():
+            tree = ast.parse(text)
+            self.assertEqual(names_imported(tree) - names_read(tree), set(), path)
+            classes = {node.name for node in ast.walk(tree) if isinstance(node, ast.ClassDef)}
+            self.assertEqual(names_bound(tree) & (names_imported(tree) | classes), set(), path)
+
+    def test_builtins(self):
+        for path, text in sources():
+            tree = ast.parse(text)
+            errors = {name for name in dir(builtins) if isinstance(getattr(builtins, name), type)
+                      and issubclass(getattr(builtins, name), Exception)}
+            read = {name for name in names_read(tree) if hasattr(builtins, name)} - errors - {"NotImplemented"}
+            self.assertEqual(read - set(BUILTINS), set(), path)
+            self.assertEqual({name for name in names_bound(tree) if hasattr(builtins, name)}, set(), path)
+
+    def test_some_builtins_take_lists(self):
+        for path, text in sources():
+            for node in ast.walk(ast.parse(text)):
+                if isinstance(node, ast.Call) and isinstance(node.func, ast.Name) and node.func.id in TAKE_LISTS:
+                    for given in node.args:
+                        self.assertNotIsInstance(given, ast.GeneratorExp, (path, node.lineno))
+
+    def test_is_stands_beside_none_and_truths(self):
+        for path, text in sources():
+            for node in ast.walk(ast.parse(text)):
+                if isinstance(node, ast.Compare):
+                    for sign, other in zip(node.ops, node.comparators):
+                        if isinstance(sign, (ast.Is, ast.IsNot)):
+                            self.assertIsInstance(other, ast.Constant, (path, node.lineno))
+
+    def test_no_function_has_the_name_of_a_generator(self):
+        kinds = {}
+        for path, text in sources():
+            for node in ast.walk(ast.parse(text)):
+                if isinstance(node, ast.FunctionDef):
+                    yields = any(isinstance(inner, (ast.Yield, ast.YieldFrom)) for inner in ast.walk(node))
+                    kinds.setdefault(node.name, set()).add(yields)
+        self.assertEqual({name for name, kind in kinds.items() if len(kind) > 1}, set())
 
     def test_no_floats_and_no_division(self):
         for path, text in sources():
