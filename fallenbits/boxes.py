@@ -1,7 +1,7 @@
 """Boxes: all patterns that agree with two patterns wherever these agree."""
 
 from fallenbits.errors import TooMany
-from fallenbits.patterns import need_bits, need_pattern, need_sizes, places_of, sizes_of
+from fallenbits.patterns import need_bits, need_pattern, need_sizes, places_of, sizes_of, unlike_bits
 
 MOST_UNLIKE_BITS = 10
 
@@ -14,15 +14,10 @@ def need_alike(texts):
         need_sizes(text, sizes_of(texts[0]))
 
 
-def unlike_bits(one, other):
-    """Return at how many bits two patterns of equal sizes differ."""
-    return len([a for a, b in zip(one, other) if a != b])
-
-
 def box(one, other):
     """Return all patterns of the box of two patterns, ascending."""
     need_alike([one, other])
-    if unlike_bits(one, other) > MOST_UNLIKE_BITS:
+    if len(unlike_bits(one, other)) > MOST_UNLIKE_BITS:
         raise TooMany("the patterns differ at more than ten bits")
     found = [""]
     for a, b in zip(one, other):
@@ -46,7 +41,7 @@ def in_box(z, one, other):
 def box_size(one, other):
     """Return how many patterns the box of two patterns has."""
     need_alike([one, other])
-    return 1 << unlike_bits(one, other)
+    return 1 << len(unlike_bits(one, other))
 
 
 def torn(one, other, early):

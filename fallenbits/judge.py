@@ -36,15 +36,7 @@ class Journey:
     def _note_fault(self, stand, event, fault):
         """Keep the first fault; as stands are taken in the order of their distance, no other one is nearer."""
         if self._fault is None:
-            self._fault = (fault[0], self._way_to(stand) + [event])
-
-    def _way_to(self, stand):
-        """Return the shortest list of events from the first stand to a stand."""
-        events = []
-        while self._came[stand] is not None:
-            stand, event = self._came[stand]
-            events.append(event)
-        return events[::-1]
+            self._fault = (fault[0], self.way_to(stand) + [event])
 
     def _ring_length(self, stand):
         """Return how many events done lead from a stand back to it, or None."""
@@ -61,7 +53,7 @@ class Journey:
         for stand in self._came:
             many = self._ring_length(stand)
             if many is not None:
-                events = self._way_to(stand) + [DONE] * many
+                events = self.way_to(stand) + [DONE] * many
                 if found is None or len(events) < len(found[1]):
                     found = ("ring", events)
         return found
@@ -72,6 +64,14 @@ class Journey:
         if ring is None or self._fault is None:
             return ring if self._fault is None else self._fault
         return ring if len(ring[1]) < len(self._fault[1]) else self._fault
+
+    def way_to(self, stand):
+        """Return the shortest list of events from the first stand to a stand."""
+        events = []
+        while self._came[stand] is not None:
+            stand, event = self._came[stand]
+            events.append(event)
+        return events[::-1]
 
     def distance(self, stand):
         """Return how many events done lead from a stand to rest, where no ring comes."""
@@ -84,6 +84,10 @@ class Journey:
     def has_come(self, stand):
         """Tell whether a stand comes from the first one."""
         return stand in self._came
+
+    def all_come(self):
+        """Return all stands that come from the first one, the nearest ones first."""
+        return list(self._came)
 
 
 def all_stands(store, changes):

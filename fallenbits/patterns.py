@@ -60,9 +60,25 @@ def need_bits(thing, many):
         raise NoBit("there is no such bit")
 
 
+def need_content(thing, many):
+    """Raise NoPattern if thing is not a text of so many signs "1" and "0"."""
+    if not isinstance(thing, str):
+        raise NoPattern(0)
+    for at, sign in enumerate(thing):
+        if at == many or sign not in ("0", "1"):
+            raise NoPattern(at)
+    if len(thing) < many:
+        raise NoPattern(len(thing))
+
+
 def bits_of(text):
     """Return the bits of a pattern, without the dots."""
     return text.replace(".", "")
+
+
+def unlike_bits(one, other):
+    """Return the numbers of the bits at which two patterns of equal sizes differ, ascending."""
+    return [bit for bit, (a, b) in enumerate(zip(bits_of(one), bits_of(other))) if a != b]
 
 
 def places_of(text):

@@ -2,7 +2,7 @@
 
 from fallenbits.errors import NoState, Unlike
 from fallenbits.grounds import Ground, all_steps, names_of, single_steps
-from fallenbits.patterns import bits_of, lies_below, need_sizes, with_erased
+from fallenbits.patterns import lies_below, need_sizes, unlike_bits, with_erased
 from fallenbits.pricerows import Told, are_price_rows, stands_along
 from fallenbits.ranks import EVER, not_less, one_less
 from fallenbits.worths import worths
@@ -35,7 +35,7 @@ def writes_between(x, y):
         if not lies_below(new, old):
             writes.append(("erase", block))
             here = with_erased(here, block)
-    falling = [bit for bit, (a, b) in enumerate(zip(bits_of(here), bits_of(y))) if a != b]
+    falling = unlike_bits(here, y)
     if falling:
         writes.append(("fall", tuple(falling)))
     return tuple(writes)

@@ -103,14 +103,18 @@ def readings(sizes, rules):
     return {x: name_read(x, rules) for x in box(fallen, fallen.replace("0", "1"))}
 
 
-def need_order(order, sizes):
-    """Raise NoOrder if order does not have each bit once, or takes one to another block."""
-    blocks = [block for block, size in enumerate(sizes) for _ in range(size)]
-    many = len(blocks)
+def need_each_bit(order, many):
+    """Raise NoOrder if order is no tuple of the numbers of all bits, each once."""
     if not isinstance(order, tuple) or len(order) != many:
         raise NoOrder("this is no tuple of as many numbers as there are bits")
     if not all([is_number(bit, many) for bit in order]) or len(set(order)) != many:
         raise NoOrder("these are not the numbers of all bits, each once")
+
+
+def need_order(order, sizes):
+    """Raise NoOrder if order does not have each bit once, or takes one to another block."""
+    need_each_bit(order, sum(sizes))
+    blocks = [block for block, size in enumerate(sizes) for _ in range(size)]
     if not all([blocks[bit] == block for bit, block in zip(order, blocks)]):
         raise NoOrder("a bit cannot go to another block")
 
