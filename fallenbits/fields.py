@@ -5,6 +5,7 @@ from fallenbits.errors import NoBit, NoField, NoRoom, NoState
 from fallenbits.patterns import bits_of, is_whole, need_content
 from fallenbits.ranks import EVER
 from fallenbits.stores import MOST_BITS, MOST_CHANGES, Store, is_name
+from fallenbits.writes import standing_bits
 
 MOST_NAMES = 8
 
@@ -21,11 +22,6 @@ def are_names(thing, least):
 def is_many(thing, bits):
     """Tell whether thing is a whole number from 1 on, of which so many bits each are not too many for a field."""
     return is_whole(thing) and 1 <= thing and thing * bits <= Field.MOST
-
-
-def standing_in(content):
-    """Return the numbers of the bits of a content that stand, ascending."""
-    return [bit for bit, sign in enumerate(content) if sign == "1"]
 
 
 def fallen_in(content):
@@ -137,7 +133,7 @@ class Mark(Field):
         return ["set"] if name == "clear" else []
 
     def _bits_for(self, content, target):
-        return standing_in(content)
+        return standing_bits(content)
 
     def _fallen_for(self, number):
         return [0] if number == 1 else []
@@ -170,7 +166,7 @@ class Choice(Field):
 
     def _labelled(self, content, label):
         """Return the bits with a label that stand in a content."""
-        return [bit for bit in standing_in(content) if bit // self._times + 1 == label]
+        return [bit for bit in standing_bits(content) if bit // self._times + 1 == label]
 
     def _bits_for(self, content, target):
         number = self._states.index(self._name_of(content))
@@ -226,7 +222,7 @@ class Count(Field):
         return [target for source, target in zip(self._states, self._states[1:]) if source == name]
 
     def _bits_for(self, content, target):
-        return standing_in(content)
+        return standing_bits(content)
 
     def _fallen_for(self, number):
         return list(range(number))
