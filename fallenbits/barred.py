@@ -1,9 +1,10 @@
 """Tables and stuck sets: whether a thing, any value, is one that holds."""
 
-from fallenbits.grounds import names_of, single_steps
+from fallenbits.grounds import names_of
+from fallenbits.masks import bit_weights, block_weights, box_mask, number_of, single_steps
 from fallenbits.patterns import is_whole
 from fallenbits.ranks import is_rank, not_less, one_less
-from fallenbits.writes import end, is_tuple_of, may_write, write_box
+from fallenbits.writes import fits, is_tuple_of
 
 
 def is_table_entry(thing, t):
@@ -11,64 +12,74 @@ def is_table_entry(thing, t):
     return is_tuple_of(thing, 3) and thing[0] == t and is_whole(thing[2]) and thing[2] >= 1
 
 
-def is_table_row(store, thing):
+def is_table_row(names, targets, thing):
     """Tell whether thing is a tuple of a pattern that reads a state, a rank and the moves that belong to them."""
-    if not is_tuple_of(thing, 3) or thing[0] not in store or not is_rank(thing[1]):
+    if not is_tuple_of(thing, 3) or not isinstance(thing[0], str) or thing[0] not in names or not is_rank(thing[1]):
         return False
     x, rank, moves = thing
-    name = store.read(x)
-    if name is None:
-        return False
-    targets = store.targets(name)
+    wanted = targets[names[x]]
     if rank == 0:
         return moves == ()
-    return is_tuple_of(moves, len(targets)) and all([is_table_entry(entry, t) for entry, t in zip(moves, targets)])
+    return is_tuple_of(moves, len(wanted)) and all([is_table_entry(entry, t) for entry, t in zip(moves, wanted)])
 
 
 class Table:
     """The rows of a table, each of the right form by itself."""
 
-    def __init__(self, store, rows, erases):
-        self._store = store
+    def __init__(self, store, names, rows, erases):
         self._erases = erases
-        self._ranks = {x: rank for x, rank, _ in rows}
-        self._distances = {(x, t): distance for x, _, moves in rows for t, _, distance in moves}
+        self._bits = bit_weights(store.sizes)
+        self._blocks = block_weights(store.sizes)
+        self._numbers = {x: number_of(x) for x in names}
+        self._reads = {self._numbers[x]: name for x, name in names.items()}
+        self._ranks = {self._numbers[x]: rank for x, rank, _ in rows}
+        self._distances = {(self._numbers[x], t): distance for x, _, moves in rows for t, _, distance in moves}
+        self._found_free = {}
 
     def row_holds(self, x, moves):
         """Tell whether each entry of the row of x holds."""
-        return all([self._entry_holds(x, t, write) for t, write, _ in moves])
+        return all([self._entry_holds(x, self._numbers[x], t, write) for t, write, _ in moves])
 
-    def _entry_holds(self, x, t, write):
-        if not may_write(x, write, self._erases):
-            return False
-        if not all([self._can_stand(x, t, z) for z in write_box(x, write)]):
-            return False
-        return self._comes_nearer(x, t, end(x, write))
+    def _free(self, s, t, rank):
+        """Return the mask of the patterns that a failure may leave on the way from s to t, at a pattern with a rank."""
+        if (s, t, rank) not in self._found_free:
+            mask = 0
+            for k, other in self._ranks.items():
+                name = self._reads[k]
+                if (name == s and not_less(other, rank)) or (name == t and not_less(other, one_less(rank))):
+                    mask = mask | (1 << k)
+            self._found_free[(s, t, rank)] = mask
+        return self._found_free[(s, t, rank)]
 
-    def _can_stand(self, x, t, z):
-        """Tell whether z has a row and a rank with which a failure may leave it on the way from x to t."""
-        if z not in self._ranks:
-            return False
-        name = self._store.read(z)
-        if name == t:
-            return not_less(self._ranks[z], one_less(self._ranks[x]))
-        return name == self._store.read(x) and not_less(self._ranks[z], self._ranks[x])
+    def _end(self, k, write):
+        """Return the number of the end of a write from the pattern with the number k."""
+        word, what = write
+        if word == "erase":
+            return k | self._blocks[what]
+        return k - sum([self._bits[bit] for bit in what])
 
-    def _comes_nearer(self, x, t, after):
-        """Tell whether after reads t, has a greater rank than x, or the same one and a lesser distance to t."""
-        if self._store.read(after) == t or self._ranks[after] != self._ranks[x]:
+    def _entry_holds(self, x, k, t, write):
+        """Tell whether the entry for t of x, the pattern with the number k, holds."""
+        if not fits(x, write) or (write[0] == "erase" and not self._erases):
+            return False
+        after = self._end(k, write)
+        if box_mask(k, after) & ~self._free(self._reads[k], t, self._ranks[k]):
+            return False
+        if self._reads[after] == t or self._ranks[after] != self._ranks[k]:
             # A lesser rank of a pattern in the box has been barred before.
             return True
-        return self._distances[(after, t)] < self._distances[(x, t)]
+        return self._distances[(after, t)] < self._distances[(k, t)]
 
 
 def is_table(store, rows, erases=True):
     """Tell whether rows, any value, are a table of the store that holds."""
-    if not isinstance(rows, list) or not all([is_table_row(store, row) for row in rows]):
+    names = names_of(store)
+    targets = {name: store.targets(name) for name in store.states}
+    if not isinstance(rows, list) or not all([is_table_row(names, targets, row) for row in rows]):
         return False
     if not all([one[0] < other[0] for one, other in zip(rows, rows[1:])]):
         return False
-    table = Table(store, rows, erases)
+    table = Table(store, names, rows, erases)
     return all([table.row_holds(x, moves) for x, _, moves in rows])
 
 
@@ -91,31 +102,37 @@ def is_stuck_set(names, changes, thing):
 class Bars:
     """The stuck sets so far, by the least number with which each pattern stands in one."""
 
-    def __init__(self, names, erases):
-        self._names = names
-        self._steps = single_steps(names, erases)
+    def __init__(self, store, names, erases):
+        self._steps = {k: [] for k in range(len(store))}
+        for k, _, after, near in single_steps(store.sizes, erases):
+            self._steps[k].append((after, near))
+        self._reads = {name: 0 for name in store.states}
+        for x, name in names.items():
+            self._reads[name] = self._reads[name] | (1 << number_of(x))
         self._least = {}
 
     def holds(self, stuck):
         """Tell whether a stuck set holds behind those so far."""
-        members = stuck[3]
-        return all([after in members or any([self._is_bad(z, stuck) for z in near])
-                    for x in members for _, after, near in self._steps[x]])
+        k, s, t, patterns = stuck
+        numbers = [number_of(x) for x in patterns]
+        members = 0
+        for x in numbers:
+            members = members | (1 << x)
+        good = (self._reads[s] & ~self._barred(k)) | (self._reads[t] & ~self._barred(k - 1))
+        return all([(members >> after) & 1 or near & ~good for x in numbers for after, near in self._steps[x]])
 
-    def _is_bad(self, z, stuck):
-        """Tell whether a failure that leaves z bars a write of a stuck set."""
-        k, s, t, _ = stuck
-        name = self._names.get(z)
-        if name == s:
-            return z in self._least and self._least[z] <= k
-        if name == t:
-            return z in self._least and self._least[z] < k
-        return True
+    def _barred(self, most):
+        """Return the mask of the patterns that stand in a stuck set with at most this number."""
+        mask = 0
+        for x, least in self._least.items():
+            if least <= most:
+                mask = mask | (1 << x)
+        return mask
 
     def take(self, stuck):
         """Add a stuck set to those so far."""
         k = stuck[0]
-        for x in stuck[3]:
+        for x in [number_of(x) for x in stuck[3]]:
             if x not in self._least or self._least[x] > k:
                 self._least[x] = k
 
@@ -126,7 +143,7 @@ def is_barred(store, sets, erases=True):
         return False
     names = names_of(store)
     changes = store.changes()
-    bars = Bars(names, erases)
+    bars = Bars(store, names, erases)
     for stuck in sets:
         if not is_stuck_set(names, changes, stuck) or not bars.holds(stuck):
             return False

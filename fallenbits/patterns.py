@@ -13,10 +13,24 @@ def is_number(thing, many):
     return is_whole(thing) and 0 <= thing < many
 
 
+def has_pattern_form(text):
+    """Tell whether a text is a pattern."""
+    parts = text.split(".")
+    bits = "".join(parts)
+    if len(parts) > Pattern.BLOCKS or "" in parts or len(bits) > Pattern.BITS:
+        return False
+    return bits.strip("01") == ""
+
+
 def pattern_fault(thing):
     """Return how many leading signs begin some pattern, or None if thing is a pattern."""
     if not isinstance(thing, str):
         return 0
+    return None if has_pattern_form(thing) else first_wrong_sign(thing)
+
+
+def first_wrong_sign(thing):
+    """Return how many leading signs of a text that is no pattern begin some pattern."""
     bits = 0
     blocks = 1
     size = 0
@@ -32,7 +46,8 @@ def pattern_fault(thing):
         else:
             bits += 1
             size += 1
-    return len(thing) if size == 0 else None
+    # All signs can stand there, so one more bit is needed.
+    return len(thing)
 
 
 def need_pattern(thing):

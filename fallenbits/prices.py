@@ -1,25 +1,27 @@
 """Prices: ranks of patterns by three other ways to count, beside the worths."""
 
 from fallenbits.errors import NoState, Unlike
-from fallenbits.grounds import Ground, all_steps, names_of, single_steps
+from fallenbits.grounds import Ground, names_of
+from fallenbits.masks import all_steps, number_of, single_steps
 from fallenbits.patterns import lies_below, need_sizes, unlike_bits, with_erased
 from fallenbits.pricerows import Told, are_price_rows, stands_along
 from fallenbits.ranks import EVER, not_less, one_less
 from fallenbits.worths import worths
 
 
-def writes_along(ways, x):
-    """Return the row of writes that some ways tell from x."""
+def writes_along(ways, k):
+    """Return the row of writes that some ways tell from the pattern with the number k."""
     writes = []
-    while x in ways:
-        _, write, x = ways[x]
+    while k in ways:
+        _, write, k, _ = ways[k][1]
         writes.append(write)
     return tuple(writes)
 
 
-def rows_along(ground, ranks, parts):
+def rows_along(names, parts, ways):
     """Return for each x and t whose rank in parts is not 0 a row of writes that holds for this rank."""
-    return {(x, t): writes_along(ways, x) for (x, t), ways in ground.told_ways(ranks, parts).items()}
+    return {(x, t): writes_along(ways[(names[x], t, rank)], number_of(x))
+            for (x, t), rank in parts.items() if rank != 0}
 
 
 def can_come(x, y, erases):
@@ -123,12 +125,12 @@ class Limited(Price):
     def __init__(self, store, n, erases=True):
         super().__init__(store, erases, False)
         self._most = n
-        self._ground = Ground(store, self._names, all_steps(self._names, erases), n)
-        ranks, _ = self._ground.ranked()
+        ground = Ground(store, all_steps(store.sizes, erases), n)
+        ranks, _, self._ways = ground.ranked()
         self._keep(ranks)
 
     def _rows_of_writes(self):
-        return rows_along(self._ground, self._ranks, self._parts)
+        return rows_along(self._names, self._parts, self._ways)
 
     def _holds_along(self, told, x, t, stands):
         return len(stands) <= self._most + 1 and told.holds_along(x, t, stands)
@@ -140,9 +142,10 @@ class Same(Price):
     def __init__(self, store, erases=True):
         super().__init__(store, erases, True)
         # A fall of many bits can be done bit by bit here, so single writes are enough.
-        self._ground = Ground(store, self._names, single_steps(self._names, erases), None)
+        self._ground = Ground(store, single_steps(store.sizes, erases), None)
         self._ranks = {x: EVER for x in self._names}
         self._parts = {(x, t): EVER for x in self._names for t in self._targets[x]}
+        self._ways = {}
         self._count()
 
     def _count(self):
@@ -151,7 +154,7 @@ class Same(Price):
         before = None
         while before != list(self._ranks.values()):
             before = list(self._ranks.values())
-            level = [x for x, rank in self._ranks.items() if rank == EVER]
+            level = self._ground.mask_of([x for x, rank in self._ranks.items() if rank == EVER])
             for s, t in self._store.changes():
                 self._count_change(s, t, level, number)
             for x, t in self._parts:
@@ -162,10 +165,13 @@ class Same(Price):
     def _count_change(self, s, t, level, number):
         """Give the number to the patterns from which a change to one of the level can be done so often only."""
         old = [x for x, name in self._names.items() if name == s and self._parts[(x, t)] == EVER]
-        kept, _ = self._ground.greatest([(s, t)], old, level)
-        for x in old:
-            if x not in kept:
+        _, taken, ways = self._ground.greatest([(s, t)], self._ground.mask_of(old), level)
+        for _, _, stuck in taken:
+            for x in self._ground.texts_in(stuck):
                 self._parts[(x, t)] = number
+        # What is not taken has a greater rank; the ways of the last count are those for ever.
+        self._ways[(s, t, number + 1)] = ways[(s, t)]
+        self._ways[(s, t, EVER)] = ways[(s, t)]
 
     def rank(self, x, t):
         """Return the rank of x for one of its targets."""
@@ -175,7 +181,7 @@ class Same(Price):
         return self._parts[(x, t)]
 
     def _rows_of_writes(self):
-        return rows_along(self._ground, self._ranks, self._parts)
+        return rows_along(self._names, self._parts, self._ways)
 
     def _holds_along(self, told, x, t, stands):
         return told.holds_along(x, t, stands)

@@ -1,8 +1,7 @@
 """Stores: what each pattern reads as, and which changes of states there are."""
 
-from fallenbits.boxes import box
 from fallenbits.errors import NoOrder, NoStore, Unlike
-from fallenbits.patterns import is_number, is_whole, need_sizes, pattern_fault, places_of, sizes_of
+from fallenbits.patterns import is_number, is_whole, need_sizes, places_of
 from fallenbits.writes import is_pair
 
 MOST_BLOCKS = 3
@@ -25,8 +24,7 @@ def is_mask(thing, sizes):
     """Tell whether thing is written like a pattern of the sizes, with "*" at any bit."""
     if not isinstance(thing, str):
         return False
-    filled = thing.replace("*", "1")
-    return pattern_fault(filled) is None and sizes_of(filled) == sizes
+    return thing.replace("*", "0").replace("1", "0") == ".".join(["0" * size for size in sizes])
 
 
 def matches(mask, x):
@@ -89,18 +87,24 @@ def state_names(rules, changes):
     return tuple(sorted(set([str(name) for name in names])))
 
 
-def name_read(x, rules):
-    """Return the name that the first rule that matches gives to x, or None."""
-    for mask, name in rules:
-        if matches(mask, x):
-            return name
-    return None
+def matched(mask):
+    """Return the patterns that a mask matches, ascending."""
+    parts = mask.split("*")
+    found = [parts[0]]
+    for part in parts[1:]:
+        found = [text + bit + part for text in found for bit in ("0", "1")]
+    return found
 
 
 def readings(sizes, rules):
     """Return a dict from all patterns of the sizes, ascending, to their names or None."""
-    fallen = ".".join(["0" * size for size in sizes])
-    return {x: name_read(x, rules) for x in box(fallen, fallen.replace("0", "1"))}
+    names = {}
+    for mask, name in rules:
+        for x in matched(mask):
+            # The first rule that matches decides.
+            if x not in names:
+                names[x] = name
+    return {x: names.get(x) for x in matched(".".join(["*" * size for size in sizes]))}
 
 
 def need_each_bit(order, many):

@@ -1,7 +1,8 @@
 """Worths: how many changes any writer can survive from each pattern of a store."""
 
 from fallenbits.drivers import Driver
-from fallenbits.grounds import Ground, names_of, single_steps
+from fallenbits.grounds import Ground, names_of
+from fallenbits.masks import number_of, single_steps
 from fallenbits.patterns import need_sizes
 from fallenbits.ranks import not_less
 
@@ -17,11 +18,13 @@ class Worths:
     def __init__(self, store, erases):
         self._store = store
         self._names = names_of(store)
-        self._ground = Ground(store, self._names, single_steps(self._names, erases), None)
-        self._ranks, self._stuck = self._ground.ranked()
+        self._targets = {name: store.targets(name) for name in store.states}
+        ground = Ground(store, single_steps(store.sizes, erases), None)
+        self._ranks, self._stuck, self._ways = ground.ranked()
 
     def __getitem__(self, at):
-        need_sizes(at, self._store.sizes)
+        if at not in self._store:
+            need_sizes(at, self._store.sizes)
         return self._ranks.get(at)
 
     def __iter__(self):
@@ -29,19 +32,16 @@ class Worths:
 
     def rows(self):
         """Return the table: each pattern with its rank and its moves."""
-        parts = {}
-        for x, name in self._names.items():
-            for t in self._store.targets(name):
-                parts[(x, t)] = self._ranks[x]
-        ways = self._ground.told_ways(self._ranks, parts)
         rows = []
         for x, name in self._names.items():
+            rank = self._ranks[x]
             moves = []
-            for t in self._store.targets(name):
-                if (x, t) in ways:
-                    distance, write, _ = ways[(x, t)][x]
-                    moves.append((t, write, distance))
-            rows.append((x, self._ranks[x], tuple(moves)))
+            if rank != 0:
+                k = number_of(x)
+                for t in self._targets[name]:
+                    many, step = self._ways[(name, t, rank)][k]
+                    moves.append((t, step[1], many))
+            rows.append((x, rank, tuple(moves)))
         return rows
 
     def sets(self):
@@ -62,6 +62,6 @@ class Worths:
         """Return the greatest rank of a pattern whose state has a change, or None if there is none."""
         found = None
         for x, name in self._names.items():
-            if self._store.targets(name) and (found is None or not_less(self._ranks[x], found)):
+            if self._targets[name] and (found is None or not_less(self._ranks[x], found)):
                 found = self._ranks[x]
         return found
