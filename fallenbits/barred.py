@@ -113,28 +113,29 @@ class Bars:
 
     def holds(self, stuck):
         """Tell whether a stuck set holds behind those so far."""
-        k, s, t, patterns = stuck
-        numbers = [number_of(x) for x in patterns]
+        number, s, t, texts = stuck
         members = 0
-        for x in numbers:
-            members = members | (1 << x)
-        good = (self._reads[s] & ~self._barred(k)) | (self._reads[t] & ~self._barred(k - 1))
-        return all([(members >> after) & 1 or near & ~good for x in numbers for after, near in self._steps[x]])
+        for x in texts:
+            members = members | (1 << number_of(x))
+        good = (self._reads[s] & ~self._barred(number)) | (self._reads[t] & ~self._barred(number - 1))
+        return all([(members >> after) & 1 == 1 or near & ~good != 0
+                    for x in texts for after, near in self._steps[number_of(x)]])
 
     def _barred(self, most):
         """Return the mask of the patterns that stand in a stuck set with at most this number."""
         mask = 0
-        for x, least in self._least.items():
+        for k, least in self._least.items():
             if least <= most:
-                mask = mask | (1 << x)
+                mask = mask | (1 << k)
         return mask
 
     def take(self, stuck):
         """Add a stuck set to those so far."""
-        k = stuck[0]
-        for x in [number_of(x) for x in stuck[3]]:
-            if x not in self._least or self._least[x] > k:
-                self._least[x] = k
+        number, _, _, texts = stuck
+        for x in texts:
+            k = number_of(x)
+            if k not in self._least or self._least[k] > number:
+                self._least[k] = number
 
 
 def is_barred(store, sets, erases=True):

@@ -120,7 +120,7 @@ class Keeper:
     def told(self, z):
         """Return the record that a pattern holds, or None; a header may be spoilt."""
         need_sizes(z, (self._size, self._size))
-        return self._record_of(z)
+        return self._held_record(z)
 
     def order(self):
         """Return the order in which a slow reader takes the bits of the device."""
@@ -149,7 +149,7 @@ class Keeper:
         first = self._places[name]
         return held_content(x)[first:first + self._fields[name].bits]
 
-    def _record_of(self, x):
+    def _held_record(self, x):
         """Return the record that a pattern of the device's sizes holds, or None."""
         if live_block(x) is None:
             return None
@@ -159,7 +159,7 @@ class Keeper:
     def _now(self):
         """Return the record that the device holds; raise Foreign if it is foreign."""
         x = self._device.pattern
-        record = self._record_of(x)
+        record = self._held_record(x)
         if record is None or has_spoilt_header(x):
             raise Foreign(x)
         return record

@@ -26,7 +26,6 @@ def seen(x, writes, order):
 def moments(x, writes, order, z):
     """Return for each bit of the order the least position at which it may be as in z, or None."""
     need_pattern(x)
-    need_pattern(z)
     need_sizes(z, sizes_of(x))
     columns = columns_of(patterns_along(x, writes))
     need_each_bit(order, len(columns))
@@ -49,21 +48,21 @@ def looks_from(play, stand):
     """Return tuples of the events, the patterns and the states of the longest looks that begin at a rest stand."""
     quiet = stands_behind(play, stand)
     events = [DONE] * (len(quiet) - 1)
-    patterns = [here[1] for here in quiet]
+    passed = [here[1] for here in quiet]
     old = play.name_of(stand[1])
-    found = [(events, patterns, (old,))]
+    found = [(events, passed, (old,))]
     for ask in play.events(quiet[-1]):
         led = play.led(quiet[-1], ask)
         if ask[0] == "ask" and is_stand(led):
             further = [here[1] for here in stands_behind(play, led)[1:]]
-            found.append((events + [ask] + [DONE] * len(further), patterns + further, (old, ask[1])))
+            found.append((events + [ask] + [DONE] * len(further), passed + further, (old, ask[1])))
     return found
 
 
 def wrong_sight(play, order, look):
     """Return a pattern that a look shows in an order and that reads neither of its states, or None."""
-    _, patterns, names = look
-    for z in sights(patterns, order):
+    _, passed, names = look
+    for z in sights(passed, order):
         if play.name_of(z) not in names:
             return z
     return None
@@ -98,8 +97,8 @@ def is_wrong_look(play, order, stands, events, z):
         return False
     if play.name_of(z) in (play.name_of(stands[0][1]), *asks):
         return False
-    patterns = [stand[1] for stand in stands]
-    return positions_of(columns_of(patterns), order, z) is not None
+    passed = [stand[1] for stand in stands]
+    return positions_of(columns_of(passed), order, z) is not None
 
 
 def shows_look(store, driver, order, start, changes, thing):

@@ -28,7 +28,10 @@ def first_showing(column, sign, position):
     behind it, at 2 k + 1.
     """
     k = column.find(sign, position // 2)
-    return None if k < 0 else max(position, 2 * k - 1)
+    if k < 0:
+        return None
+    earliest = 2 * k - 1
+    return earliest if earliest > position else position
 
 
 def positions_of(columns, order, z):

@@ -174,6 +174,11 @@ class ErrorTest(unittest.TestCase):
         self.refused("names", Joint, Toggle(1), Choice(("a", "b", "c", "d", "e"), 1), 1)
         self.refused("names", Joint, Joint(Toggle(1), Toggle(1), 1), Choice(("a", "b", "c"), 1), 1)
 
+    def test_joint_of_what_is_no_choice(self):
+        for thing in (Mark(), Count(1), Once(["a"]), None, "toggle 1", 1):
+            self.refused("names", Joint, thing, Toggle(1), 1)
+            self.refused("names", Joint, Toggle(1), thing, 1)
+
     def test_once(self):
         wrong = [thing for thing in ODD_THINGS if thing not in (("fall",), ("erase",))]
         wrong += ["ab", [], (), ("a", "a"), ["open"], ("a", "open"), ("A",), ("a", None), ("a", []),

@@ -377,6 +377,12 @@ class ErrorTest(unittest.TestCase):
         self.no_field("other", lambda: keeper.change(mode="x", other=1, another=2))
         self.assertEqual((device.pattern, device.ended), ("10111.11111", 0))
 
+    def test_targets_that_are_no_list_of_pairs(self):
+        device, keeper = begun(PAIR)
+        for thing in [*NO_LISTS, [None], ["mode"], [["mode", "on"]], [("mode",)], [("mode", "on", 1)], [("mode", "on"), None]]:
+            self.no_field(None, keeper.put, thing)
+        self.assertEqual(device.ended, 0)
+
     def test_no_state(self):
         device, keeper = begun(PAIR)
         for target in [*ODD_THINGS, "n0", "set", "On"]:

@@ -3,6 +3,7 @@
 import ast
 import builtins
 import pathlib
+import re
 import unittest
 
 PACKAGE = pathlib.Path(__file__).resolve().parent.parent / "fallenbits"
@@ -135,6 +136,36 @@ class LanguageTest(unittest.TestCase):
                     yields = any(isinstance(inner, (ast.Yield, ast.YieldFrom)) for inner in ast.walk(node))
                     kinds.setdefault(node.name, set()).add(yields)
         self.assertEqual({name for name, kind in kinds.items() if len(kind) > 1}, set())
+
+    def test_no_method_has_the_name_of_a_property(self):
+        kinds = {}
+        for path, text in sources():
+            for node in ast.walk(ast.parse(text)):
+                if isinstance(node, ast.ClassDef):
+                    for method in [part for part in node.body if isinstance(part, ast.FunctionDef)]:
+                        marks = [getattr(mark, "id", getattr(mark, "attr", "")) for mark in method.decorator_list]
+                        kinds.setdefault(method.name, set()).add("property" in marks or "setter" in marks)
+        self.assertEqual({name for name, kind in kinds.items() if len(kind) > 1}, set())
+
+    def test_plain_names(self):
+        barred = re.compile("_(cold|tuplegetter|outside|record|written_out|member_names)([0-9_]|$)|"
+                            "_(wall|pe_|dcw_|enum_|cm_|twin_re_|lay_|law_|stub_|sre|WallAttr)")
+        for path, text in sources():
+            for node in ast.walk(ast.parse(text)):
+                for name in [getattr(node, part, None) for part in ("id", "attr", "name", "arg")]:
+                    if isinstance(name, str):
+                        self.assertIsNone(barred.match(name), (path, name))
+                        self.assertRegex(name, "^_?[A-Za-z][A-Za-z0-9_]*$|^__[a-z]+__$|^_$|^fallenbits[.]")
+
+    def test_attributes_that_are_read_are_assigned(self):
+        assigned, read = set(), set()
+        for path, text in sources():
+            for node in ast.walk(ast.parse(text)):
+                if isinstance(node, ast.Attribute) and isinstance(node.value, ast.Name) and node.value.id == "self":
+                    (assigned if isinstance(node.ctx, ast.Store) else read).add(node.attr)
+                if isinstance(node, ast.FunctionDef):
+                    assigned.add(node.name)
+        self.assertEqual(read - assigned, set())
 
     def test_no_floats_and_no_division(self):
         for path, text in sources():

@@ -96,6 +96,13 @@ class SeenTest(unittest.TestCase):
         self.assertEqual(len(seen(x, [ten, ("erase", 0)] * 300, order[::-1])), 1024)
         self.assertEqual(moments(x, [eleven], order, x), [0] * 22)
 
+    def test_bits_that_have_fallen_before_do_not_count(self):
+        x = "1" * 11 + "." + "0" * 11
+        writes = [("fall", tuple(range(10)))]
+        self.assertEqual(len(seen(x, writes, tuple(range(22)))), 1024)
+        with self.assertRaises(TooMany):
+            seen(x, writes + [("fall", (10,))], tuple(range(22)))
+
     def test_a_large_pattern(self):
         x = "1" * 60 + "." + "1" * 60
         writes = [("fall", (5,)), ("fall", (100,)), ("erase", 0)]
@@ -138,8 +145,11 @@ class MomentsTest(unittest.TestCase):
 class ErrorTest(unittest.TestCase):
     def test_no_pattern(self):
         for thing in [*NO_TEXTS, "", "1.", "12"]:
-            with self.assertRaises(NoPattern):
-                seen(thing, [None], None)
+            for writes in ([None], [], None):
+                with self.assertRaises(NoPattern):
+                    seen(thing, writes, None)
+                with self.assertRaises(NoPattern):
+                    moments(thing, writes, None, thing)
             with self.assertRaises(NoPattern):
                 moments(thing, [None], None, None)
             with self.assertRaises(NoPattern) as caught:
@@ -249,6 +259,18 @@ class LookFaultTest(LookCase):
         self.assertFalse(shows_look(QUIET, SLOW, (0, 1), "11", None, (whole[:3], 0, "10")))
         self.assertTrue(shows_look(QUIET, SLOW, (0, 1), "11", None, (whole[:2], 0, "10")))
 
+    def test_quiet_writes_ahead_of_the_ask(self):
+        # Neither the quiet write nor the change alone shows 10, which reads c; both together do.
+        store = Store([2], [("*1", "a"), ("00", "b"), ("10", "c")], [("a", "b")])
+        driver = Driver(store, [("11", "", ("fall", (0,))), ("01", "b", ("fall", (1,)))])
+        self.assertEqual(judge(store, driver, "11")[0], "closed")
+        whole = [("done",), ("ask", "b"), ("done",)]
+        self.assertEqual(self.told(store, driver, (0, 1), "11", None), (whole, 0, "10"))
+        self.assertIsNone(self.told(store, driver, (1, 0), "11", None))
+        self.assertIsNone(self.told(store, driver, (0, 1), "11", 0))
+        for events, many in ((whole[:1], 0), (whole[:2], 0), (whole, 1)):
+            self.assertFalse(shows_look(store, driver, (0, 1), "11", None, (events, many, "10")))
+
     def test_quiet_writes_behind_the_change(self):
         self.assertEqual(judge(BEHIND, AFTER, "111")[0], "closed")
         events, many, z = self.told(BEHIND, AFTER, (0, 1, 2), "111", None)
@@ -300,10 +322,11 @@ class LookFaultTest(LookCase):
 
     def test_a_start_that_reads_nothing(self):
         store = Store([2], [("1*", "a"), ("01", "b")], [("a", "b")])
-        driver = Driver(store, [])
-        self.assertIsNone(look_fault(store, driver, (0, 1), "00", None))
-        for thing in [None, ([], 0, "00"), ([], 0, "11"), ([("done",)], 0, "11")]:
-            self.assertIs(shows_look(store, driver, (0, 1), "00", None, thing), False)
+        quiet = [("00", "", ("erase", 0)), ("11", "", ("fall", (0,)))]
+        for driver in (Driver(store, []), Driver(store, quiet)):
+            self.assertIsNone(look_fault(store, driver, (0, 1), "00", None))
+            for thing in [None, ([], 0, "00"), ([], 0, "11"), ([("done",)], 0, "11"), ([("cut", "11"), ("done",)], 0, "10")]:
+                self.assertIs(shows_look(store, driver, (0, 1), "00", None, thing), False)
 
     def test_errors(self):
         for call in (look_fault, lambda *given: shows_look(*given, None)):
