@@ -96,7 +96,7 @@ class Desk:
         if word in ON_DEVICE:
             return "no device" if self._device is None else self._on_device(word, rest)
         if word in ON_STORE:
-            return self._added(word, rest)
+            return self._add_line(word, rest)
         if word == "start":
             return self._started(rest[0])
         if word == "read":
@@ -111,7 +111,7 @@ class Desk:
         self._device = None
         return "ok"
 
-    def _added(self, word, rest):
+    def _add_line(self, word, rest):
         """Add a rule or a change to the store, or a row to the driver."""
         rules = self._store.rules()
         changes = self._store.changes()
